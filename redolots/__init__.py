@@ -1,0 +1,1 @@
+"""Redolots: scripts over blocks that are run again after a crash."""
