@@ -3,7 +3,7 @@ import itertools
 import random
 import unittest
 
-from helpers import Case
+from helpers import Case, random_machine
 from redolots.compare import accepts, compare, judge_within
 from redolots.errors import TooMany
 from redolots.machines import Lagging, Machine, Workers
@@ -62,13 +62,6 @@ def slow_pairs(first, second, length):
                     pairs.append(pair)
                     ways.append(ways[at] + (line,))
     return pairs, ways
-
-
-def random_machine(chance, length):
-    count = chance.randrange(1, 5)
-    edges = tuple((chance.randrange(count), chance.randrange(-1, length + 1), chance.randrange(count))
-                  for _ in range(chance.randrange(9)))
-    return Machine(count, edges, tuple(chance.randrange(count) for _ in range(chance.randrange(3))))
 
 
 def rings(tail, *lengths):

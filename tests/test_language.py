@@ -11,8 +11,9 @@ FOLDER = pathlib.Path(redolots.__file__).parent
 FILES = sorted(FOLDER.glob("*.py"))
 
 INTERFACE = {
-    "errors": {"RedoError": (), "InvalidRule": (), "InvalidLine": (), "InvalidRun": (), "InvalidImage": (),
-               "InvalidText": (), "TooMany": ()},
+    "errors": {"RedoError": (), "InvalidRule": (), "UnknownPlace": (), "InvalidLine": (), "InvalidRun": (),
+               "InvalidGoal": (), "NotPlain": (), "IdleLine": (), "InvalidImage": (), "InvalidText": (), "TooMany": (),
+               "TwoRoots": (), "NotARoot": (), "Unsettled": (), "NoSafeLog": ()},
     "images": {"check_image": None, "look": None, "home": None},
     "lines": {"check_script": None, "matches": None, "fires": None, "sources": None, "apply_line": None,
               "look_after": None},
@@ -26,7 +27,24 @@ INTERFACE = {
                  "Machine": ("first_state", "steps", "is_end", "__str__"), "read_rule": None},
     "runs": {"undisturbed": None, "is_run": None, "is_complete": None, "executed": None, "play": None, "trail": None},
     "compare": {"accepts": None, "compare": None, "judge_within": None},
+    "lots": {"reachable": None,
+             "Lots": ("places", "end_places", "lot", "end_lot", "is_safe", "final", "table", "run_to", "__len__",
+                      "__contains__")},
+    "papers": {"judge_table": None, "judge_runs": None, "verdict": None, "wrong_run": None},
+    "copylog": {"copies": None, "pairs": None, "origins": None, "matters": None, "idle_lines": None,
+                "without_idle": None},
+    "spoilers": {"top_spoiler": None, "mark_spoiler": None, "late_spoiler": None, "spoiling_run": None,
+                 "strength": None},
+    "sweeps": {"safe_lag": None, "late_set": None, "fewest_points": None},
+    "joins": {"groups": None, "within_reach": None, "knots": None, "root_sets": None},
+    "orders": {"late_order": None, "late_outcomes": None, "reordered": None},
+    "repeats": {"late_lots": None, "settled": None, "repeats": None},
+    "goals": {"check_goal": None, "homeless": None, "safe_log": None, "least_logs": None, "count_least_logs": None,
+              "count_safe_goals": None},
 }
+
+# What may be imported from outside of the package.
+LIBRARY = {"heapq": {"heappush", "heappop"}, "math": {"comb", "factorial"}, "itertools": {"product", "combinations"}}
 
 BUILTINS = set("""len range enumerate zip min max sum abs sorted reversed int str bool list tuple dict set isinstance ord
     repr any all divmod pow ValueError KeyError NotImplemented property staticmethod classmethod super""".split())
@@ -84,10 +102,13 @@ class StatementsTest(unittest.TestCase):
                 if isinstance(node, ast.ImportFrom):
                     self.assertIn(node, tree.body)
                     self.assertEqual(0, node.level)
-                    self.assertTrue(node.module.startswith("redolots."), (path.name, node.module))
+                    self.assertEqual([], [name.asname for name in node.names if name.asname])
                     self.assertEqual(set(), {name.name for name in node.names} - self.defined(node.module))
 
     def defined(self, module):
+        if module in LIBRARY:
+            return LIBRARY[module]
+        self.assertTrue(module.startswith("redolots."), module)
         tree = ast.parse((FOLDER / (module.split(".")[1] + ".py")).read_text())
         found = {node.name for node in tree.body if isinstance(node, (ast.FunctionDef, ast.ClassDef))}
         return found | {node.targets[0].id for node in tree.body if isinstance(node, ast.Assign)}
@@ -98,6 +119,53 @@ class StatementsTest(unittest.TestCase):
                 self.assertNotIsInstance(node, (ast.Global, ast.AsyncFunctionDef, ast.TryStar, ast.Div, ast.AnnAssign))
                 if isinstance(node, ast.Constant):
                     self.assertNotIsInstance(node.value, (float, complex))
+
+    def test_library_names_are_only_called(self):
+        library = set().union(*LIBRARY.values())
+        for path, tree in trees():
+            called = [node.func for node in ast.walk(tree) if isinstance(node, ast.Call) and not node.keywords]
+            for node in ast.walk(tree):
+                if isinstance(node, ast.Name) and node.id in library:
+                    self.assertIn(node, called, (path.name, node.lineno))
+
+    def test_what_stands_behind_a_star(self):
+        for path, tree in trees():
+            for node in ast.walk(tree):
+                if isinstance(node, ast.Call):
+                    for argument in node.args:
+                        if isinstance(argument, ast.Starred):
+                            self.assertIsInstance(argument.value, (ast.Name, ast.Attribute), (path.name, node.lineno))
+
+    def test_sets_are_used_on_the_spot(self):
+        for path, tree in trees():
+            parents = {child: node for node in ast.walk(tree) for child in ast.iter_child_nodes(node)}
+            for node in ast.walk(tree):
+                made = isinstance(node, ast.Call) and isinstance(node.func, ast.Name) and node.func.id == "set"
+                if made or isinstance(node, (ast.Set, ast.SetComp)):
+                    parent = parents[node]
+                    self.assertIsInstance(parent, ast.Call, (path.name, node.lineno))
+                    self.assertIn(parent.func.id, ("sorted", "len"), (path.name, node.lineno))
+
+    def test_names_of_imports_are_not_given_twice(self):
+        for path, tree in trees():
+            names = {name.name for node in tree.body if isinstance(node, ast.ImportFrom) for name in node.names}
+            names |= {node.name for node in tree.body if isinstance(node, ast.ClassDef)}
+            for node in ast.walk(tree):
+                if isinstance(node, ast.Name) and isinstance(node.ctx, ast.Store):
+                    self.assertNotIn(node.id, names, (path.name, node.lineno))
+                if isinstance(node, ast.arg):
+                    self.assertNotIn(node.arg, names, (path.name, node.lineno))
+
+    def test_no_files_import_each_other(self):
+        leads = {}
+        for path, tree in trees():
+            modules = [node.module for node in tree.body if isinstance(node, ast.ImportFrom)]
+            leads[path.stem] = {module.split(".")[1] for module in modules if module.startswith("redolots.")}
+        while leads:
+            free = [name for name in leads if not leads[name] & set(leads)]
+            self.assertTrue(free, leads)
+            for name in free:
+                del leads[name]
 
     def test_names_of_builtins(self):
         barred = {name for name in dir(builtins) if not name.startswith("_")}
