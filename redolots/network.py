@@ -4,7 +4,7 @@ from redolots.images import look
 from redolots.lines import check_script, kept_blocks, look_after, sources
 from redolots.rules import Rule
 
-_MOST_PLACES = 5000
+MOST_PLACES = 5000
 
 
 class Network:
@@ -53,17 +53,13 @@ class Network:
         return number == 0 and all([self.image[block] in entries for block, entries in zip(blocks, wanted)])
 
     def _explore(self, script, rule):
-        effects = {}
+        effects = Effects(script)
         while len(self.onward) < len(self.found):
             here = len(self.onward)
             state, view = self.found[here]
             self.onward.append([])
             for step in rule.steps(state, len(script)):
-                # Places share their looks, so what a line does at a look is kept.
-                key = (step[0], view)
-                if key not in effects:
-                    effects[key] = step_effect(script, view, step)
-                seen, origins = effects[key]
+                seen, origins = effects.behind(view, step)
                 after = self._number((step[1], seen))
                 self.onward[here].append((after, origins, step))
                 self.backward[after].append((here, origins, step))
@@ -71,12 +67,27 @@ class Network:
     def _number(self, place):
         """The number of the place, which gets one if it is new."""
         if place not in self.numbers:
-            if len(self.found) == _MOST_PLACES:
-                raise TooMany(_MOST_PLACES)
+            if len(self.found) == MOST_PLACES:
+                raise TooMany(MOST_PLACES)
             self.numbers[place] = len(self.found)
             self.found.append(place)
             self.backward.append([])
         return self.numbers[place]
+
+
+class Effects:
+    """What the steps of a script do at a look. Places share their looks, so what was found is kept."""
+
+    def __init__(self, script):
+        self.script = script
+        self.known = {}
+
+    def behind(self, view, step):
+        """The look behind a step that is taken at the look, and the sources of the step."""
+        key = (step[0], view)
+        if key not in self.known:
+            self.known[key] = step_effect(self.script, view, step)
+        return self.known[key]
 
 
 def step_effect(script, view, step):

@@ -119,7 +119,7 @@ class Either(Rule):
     """All that one of several simple rules allows."""
 
     def __init__(self, *rules):
-        if not rules or not all([_is_simple(rule) for rule in rules]):
+        if not rules or not all([is_simple(rule) for rule in rules]):
             raise InvalidRule()
         # Kept flat, so that a long chain of | does not make deep calls.
         self.parts = tuple([part for rule in rules for part in _parts(rule)])
@@ -152,6 +152,11 @@ def are_ascending(numbers, least, most):
     return all([low < high for low, high in zip(numbers, numbers[1:])])
 
 
+def is_simple(rule):
+    """True if this is a rule of one of the six simple classes."""
+    return isinstance(rule, Rule) and rule.SIMPLE
+
+
 def _ahead(state, length):
     """The step that executes the next line, in a list that is empty at the end."""
     position = state[0]
@@ -160,10 +165,6 @@ def _ahead(state, length):
 
 def _listed(numbers):
     return "".join([f" {number}" for number in numbers])
-
-
-def _is_simple(rule):
-    return isinstance(rule, Rule) and rule.SIMPLE
 
 
 def _parts(rule):

@@ -116,6 +116,12 @@ def all_logs(blocks, most):
             yield list(log)
 
 
+def all_goals(most):
+    """All goals of up to so many blocks."""
+    for blocks in range(1, most + 1):
+        yield from itertools.product(range(blocks), repeat=blocks)
+
+
 # From its first place each of the last states has 128 looks, and the state before them has 8.
 def many_places(places):
     """A script, an image and a rule without ends, with 5000 or 5001 reachable places."""

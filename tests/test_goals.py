@@ -2,7 +2,7 @@
 import itertools
 import unittest
 
-from helpers import Case, all_logs
+from helpers import Case, all_goals, all_logs
 from redolots.copylog import copies, pairs
 from redolots.errors import InvalidGoal, NoSafeLog
 from redolots.goals import check_goal, count_least_logs, count_safe_goals, homeless, least_logs, safe_log
@@ -11,12 +11,8 @@ from redolots.lots import Lots
 from redolots.machines import Lagging, Workers
 from redolots.plain import plain_run
 from redolots.rules import FromMark, FromPoints, FromTop, Late, Rule
-
-
-def all_goals(most):
-    """All goals of up to so many blocks."""
-    for blocks in range(1, most + 1):
-        yield from itertools.product(range(blocks), repeat=blocks)
+from redolots.shortest import closed_rings, fewest_copies, least_log
+from redolots.stages import fewest_stages
 
 
 def is_safe_goal(goal):
@@ -28,7 +24,8 @@ def yielded(goal):
 
 
 class CheckTest(Case):
-    CALLS = [check_goal, homeless, safe_log, yielded, count_least_logs]
+    CALLS = [check_goal, homeless, safe_log, yielded, count_least_logs, closed_rings, fewest_copies, least_log,
+             fewest_stages]
 
     def told(self, at, goal):
         for call in self.CALLS:

@@ -13,7 +13,9 @@ FILES = sorted(FOLDER.glob("*.py"))
 INTERFACE = {
     "errors": {"RedoError": (), "InvalidRule": (), "UnknownPlace": (), "InvalidLine": (), "InvalidRun": (),
                "InvalidGoal": (), "NotPlain": (), "IdleLine": (), "InvalidImage": (), "InvalidText": (), "TooMany": (),
-               "TwoRoots": (), "NotARoot": (), "Unsettled": (), "NoSafeLog": ()},
+               "TwoRoots": (), "NotARoot": (), "Unsettled": (), "NoSafeLog": (), "NoLog": (), "NotRenaming": (),
+               "NothingToUndo": (), "NothingToRedo": (), "InvalidDeed": (), "NotCareful": (), "NotAllowed": (),
+               "NotAnchored": (), "NoPlan": (), "Undecided": (), "InvalidMost": ()},
     "images": {"check_image": None, "look": None, "home": None},
     "lines": {"check_script": None, "matches": None, "fires": None, "sources": None, "apply_line": None,
               "look_after": None},
@@ -41,10 +43,24 @@ INTERFACE = {
     "repeats": {"late_lots": None, "settled": None, "repeats": None},
     "goals": {"check_goal": None, "homeless": None, "safe_log": None, "least_logs": None, "count_least_logs": None,
               "count_safe_goals": None},
+    "shortest": {"closed_rings": None, "fewest_copies": None, "least_log": None},
+    "stages": {"is_stage": None, "stages": None, "fewest_stages": None},
+    "replacing": {"anchors": None, "unanchored": None, "replace_script": None},
+    "movement": {"check_renaming": None, "check_careful": None, "chains": None, "rings": None, "moving": None},
+    "plans": {"obstacle": None, "judge_obstacle": None, "plan": None, "fewest_moves": None, "plans": None,
+              "count_goals": None},
+    "rounds": {"play_story": None, "by_look": None, "is_staircase": None},
+    "ends": {"all_ends": None, "unnoticed": None, "telling_blocks": None},
+    "hindsight": {"find_run": None},
+    "store": {"Store": ("__init__", "at_home", "put", "advance", "crash", "again", "tear", "flush", "change_most",
+                        "paper", "disk", "base", "batch", "state", "position", "promised", "flushes", "total",
+                        "most_pending")},
+    "desk": {"Desk": ("__init__", "put", "advance", "crash", "again", "tear", "flush", "change_most", "undo", "redo",
+                      "run_all", "undoable", "redoable")},
 }
 
 # What may be imported from outside of the package.
-LIBRARY = {"heapq": {"heappush", "heappop"}, "math": {"comb", "factorial"}, "itertools": {"product", "combinations"}}
+LIBRARY = {"heapq": {"heappush", "heappop"}, "math": {"comb", "factorial", "perm"}, "itertools": {"product", "combinations"}}
 
 BUILTINS = set("""len range enumerate zip min max sum abs sorted reversed int str bool list tuple dict set isinstance ord
     repr any all divmod pow ValueError KeyError NotImplemented property staticmethod classmethod super""".split())
