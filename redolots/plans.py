@@ -65,10 +65,7 @@ def plans(before, after):
 
 def count_goals(blocks, values):
     """How many images are free of an obstacle from one image with so many values of one kind."""
-    empty = blocks - values
-    if empty == 0:
-        return 1
-    if empty == 1:
+    if blocks - values == 1:
         # The empty block goes through some of the others, in any order.
         return sum([perm(values, through) for through in range(values + 1)])
     # All images with another look, and the image itself.

@@ -194,7 +194,21 @@ class StepsTest(Case):
         store.advance()
         self.assertFails(NotAllowed, {"at": 2}, store.crash, 2)
 
-    def test_a_line_is_executed_again_on_the_disk(self):
+    def test_a_line_that_is_executed_again_changes_the_disk(self):
+        # The second line fires in the second round alone.
+        lines = [("copy", 1, 0, ""), ("copy", 1, 3, "--*-"), ("copy", 1, 0, ""), ("copy", 2, 3, "")]
+        store = filled(FromTop() | Late((0,)), lines, (5, 6, -1, 7), steps=4)
+        self.assertEqual((lines, (5, 5, 7, 7)), (store.batch, store.disk))
+        store.crash(0)
+        store.advance()
+        store.advance()
+        self.assertEqual((5, 7, 7, 7), store.disk)
+        store.again(0)
+        self.assertEqual(((5, 5, 7, 7), (2,)), (store.disk, store.state))
+        self.assertEqual(2, store.flush())
+        self.assertEqual((5, 5, 7, 7), store.disk)
+
+    def test_a_line_that_is_executed_again_changes_nothing_more(self):
         store = filled(Late(), [("copy", 1, 0, ""), ("copy", 3, 2, "")], home(4), steps=2)
         self.assertEqual((0, 0, 2, 2), store.disk)
         store.again(1)
